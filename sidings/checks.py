@@ -7,7 +7,7 @@ A list, tuple, text or number may be of a class of its own that walks, compares 
 Adding to an empty one, joining, and int look at what it holds, and what they make is plain.
 """
 
-from sidings.errors import BadMoves, BadTrain, BadYard
+from sidings.errors import BadMoves, BadText, BadTrain, BadYard
 
 MOST_TRACKS = 100000
 WORDS = ("in", "out")
@@ -36,18 +36,32 @@ def has_two_alike(wagons):
     return any([less == greater for less, greater in zip(in_order, in_order[1:])])
 
 
+def checked_order(order):
+    wagons = checked_train(order)
+    if sorted(wagons) != list(range(len(wagons))):
+        raise BadTrain("an order is of the wagons 0, 1, 2 and so on")
+    return wagons
+
+
 def checked_blind(blind):
     if blind is not True and blind is not False:
         raise BadYard("blind is True or False")
     return blind
 
 
-def checked_many(many):
+def checked_count(many):
     if not is_number(many):
         raise BadYard("the count of tracks is a whole number")
     count = int(many)
-    if count < 1 or count > MOST_TRACKS:
-        raise BadYard("a yard has 1 to 100000 tracks")
+    if count < 1:
+        raise BadYard("a yard has 1 track or more")
+    return count
+
+
+def checked_many(many):
+    count = checked_count(many)
+    if count > MOST_TRACKS:
+        raise BadYard("a yard that is run has 100000 tracks at the most")
     return count
 
 
@@ -82,3 +96,9 @@ def checked_track(track, many):
     if place < 0 or place >= many:
         raise BadMoves("there is no such track")
     return place
+
+
+def checked_text(text):
+    if not isinstance(text, str):
+        raise BadText("what is read is a text")
+    return "".join([text])

@@ -29,26 +29,48 @@ class Track:
         return self.came[self.gone_ahead:]
 
 
+class Yard:
+
+    def __init__(self, wagons, blind):
+        self.wagons = wagons
+        self.blind = blind
+        self.come = 0
+        self.left = []
+        # A track is made when its first wagon comes: a yard may have far more tracks than moves.
+        self.tracks = {}
+
+    def carry_out(self, steps):
+        for at, step in enumerate(steps):
+            if step[0] == "in":
+                self.carry_in(at, step[1])
+            else:
+                self.carry_away(at, step[1])
+
+    def carry_in(self, at, place):
+        if self.come == len(self.wagons):
+            raise Stuck(at)
+        if place not in self.tracks:
+            self.tracks[place] = Track(self.blind)
+        self.tracks[place].let_in(self.wagons[self.come])
+        self.come += 1
+
+    def carry_away(self, at, place):
+        if place not in self.tracks or self.tracks[place].is_empty():
+            raise Stuck(at)
+        self.left.append(self.tracks[place].let_out())
+
+    def standing_on(self, place):
+        return self.tracks[place].standing() if place in self.tracks else []
+
+
 def run(train, blind, many, moves):
     wagons = checked_train(train)
     is_blind = checked_blind(blind)
     count = checked_many(many)
     steps = checked_moves(moves, count)
-    tracks = [Track(is_blind) for place in range(count)]
-    left = []
-    come = 0
-    for at, step in enumerate(steps):
-        track = tracks[step[1]]
-        if step[0] == "in":
-            if come == len(wagons):
-                raise Stuck(at)
-            track.let_in(wagons[come])
-            come += 1
-        else:
-            if track.is_empty():
-                raise Stuck(at)
-            left.append(track.let_out())
-    return (left, [each.standing() for each in tracks], wagons[come:])
+    yard = Yard(wagons, is_blind)
+    yard.carry_out(steps)
+    return (yard.left, [yard.standing_on(place) for place in range(count)], wagons[yard.come:])
 
 
 def behind(one, other):
@@ -57,8 +79,11 @@ def behind(one, other):
 
 
 def ranks(wagons):
-    in_order = sorted(range(len(wagons)), key=lambda place: wagons[place])
     ranked = [0] * len(wagons)
-    for rank, place in enumerate(in_order):
+    for rank, place in enumerate(places_in_order(wagons)):
         ranked[place] = rank
     return ranked
+
+
+def places_in_order(wagons):
+    return sorted(range(len(wagons)), key=lambda place: wagons[place])

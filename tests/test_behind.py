@@ -3,31 +3,11 @@ import itertools
 import unittest
 
 import kinds
+from sidings.answers import Shunted
 from sidings.errors import BadTrain
+from sidings.tracks import one_blind, two_blind
 from sidings.yards import behind, run
-
-
-def shunted(train, many):
-    """Moves that bring the train out in order through blind tracks, or None; every way is tried."""
-    wanted = sorted(train)
-
-    def search(come, tracks, left, moves):
-        for place, track in enumerate(tracks):
-            if track and track[-1] == wanted[left]:
-                fewer = tracks[:place] + (track[:-1],) + tracks[place + 1:]
-                return search(come, fewer, left + 1, moves + [("out", place)])
-        if left == len(train):
-            return moves
-        if come == len(train):
-            return None
-        for place, track in enumerate(tracks):
-            more = tracks[:place] + (track + (train[come],),) + tracks[place + 1:]
-            found = search(come + 1, more, left, moves + [("in", place)])
-            if found is not None:
-                return found
-        return None
-
-    return search(0, ((),) * many, 0, [])
+from trains import mixed, searched_moves, through_blind
 
 
 class Telling(unittest.TestCase):
@@ -92,8 +72,8 @@ class InOrderJustIfBothCan(unittest.TestCase):
 
     def check(self, one, other, many):
         both = behind(one, other)
-        can_both = shunted(one, many) is not None and shunted(other, many) is not None
-        moves = shunted(both, many)
+        can_both = searched_moves(one, many) is not None and searched_moves(other, many) is not None
+        moves = searched_moves(both, many)
         self.assertEqual(moves is not None, can_both, (one, other, many))
         if can_both:
             self.assertEqual(run(both, True, many, moves), (sorted(both), [[] for _ in range(many)], []))
@@ -108,6 +88,14 @@ class InOrderJustIfBothCan(unittest.TestCase):
         trains = [[], [1, 2, 0], [1, 2, 3, 0], [3, 1, 2, 0], [2, 3, 1, 0]]
         answers = [self.check(one, other, 2) for one, other in itertools.product(trains, repeat=2)]
         self.assertEqual(set(answers), {True, False})
+
+    def test_what_is_told_of_them(self):
+        for tell, many in ((one_blind, 1), (two_blind, 2)):
+            trains = [through_blind(50, many, seed) for seed in range(4)] + [mixed(50, seed) for seed in range(4)]
+            trains += [[], [1, 2, 0], [1, 2, 3, 0]]
+            for one, other in itertools.product(trains, repeat=2):
+                can_both = isinstance(tell(one), Shunted) and isinstance(tell(other), Shunted)
+                self.assertEqual(isinstance(tell(behind(one, other)), Shunted), can_both, (one, other))
 
 
 class Refusing(unittest.TestCase):

@@ -8,28 +8,9 @@ from collections import namedtuple
 import kinds
 from sidings.errors import BadMoves, BadTrain, BadYard, Stuck
 from sidings.yards import run
+from trains import moves_of, slow_run
 
 IN, OUT = ("in", 0), ("out", 0)
-
-
-def moves_of(text):
-    """`i0 o1` as [("in", 0), ("out", 1)]."""
-    words = {"i": "in", "o": "out"}
-    return [(words[each[0]], int(each[1:])) for each in text.split()]
-
-
-def slow_run(train, blind, many, moves):
-    """What `run` tells, straight from the words of the document; the place of a stuck move alone."""
-    coming, tracks, left = list(train), [[] for _ in range(many)], []
-    for at, (word, track) in enumerate(moves):
-        source = coming if word == "in" else tracks[track]
-        if not source:
-            return at
-        if word == "in":
-            tracks[track].append(coming.pop(0))
-        else:
-            left.append(tracks[track].pop(-1 if blind else 0))
-    return (left, tracks, coming)
 
 
 class Running(unittest.TestCase):
